@@ -1,0 +1,1 @@
+"""Loosemarks: numbers told by marks, no two side by side."""

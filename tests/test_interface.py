@@ -1,0 +1,42 @@
+"""The names and arguments that the document's interface lists."""
+
+import inspect
+import unittest
+
+from loosemarks import moves, piles
+
+INTERFACE = {
+    piles: {
+        "is_pile": ["thing"],
+        "is_row": ["thing"],
+        "need_pile": ["thing"],
+        "need_row": ["thing"],
+        "pile_of": ["places"],
+        "worth": ["pile"],
+    },
+    moves: {
+        "moves_of": ["pile"],
+        "done": ["pile", "move"],
+        "weight": ["pile"],
+    },
+}
+
+
+class TestInterface(unittest.TestCase):
+    def test_each_function_is_defined_in_its_file(self):
+        for module, functions in INTERFACE.items():
+            for name in functions:
+                with self.subTest(name):
+                    self.assertTrue(inspect.isfunction(getattr(module, name)))
+                    self.assertEqual(getattr(module, name).__module__, module.__name__)
+
+    def test_each_function_has_its_arguments(self):
+        for module, functions in INTERFACE.items():
+            for name, arguments in functions.items():
+                with self.subTest(name):
+                    parameters = inspect.signature(getattr(module, name)).parameters
+                    self.assertEqual(list(parameters), arguments)
+
+
+if __name__ == "__main__":
+    unittest.main()
