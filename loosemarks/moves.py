@@ -10,6 +10,12 @@ PART = "part"
 def moves_of(pile):
     """List the moves whose marks are there: joins by rising place, then parts likewise."""
     need_pile(pile)
+    return moves_there(pile)
+
+
+# Long papers are made move by move, so this and behind don't ask anew whether a pile is one.
+def moves_there(pile):
+    """List the moves of what surely is a pile, as moves_of does."""
     pairs = next_pairs(pile)
     joins = [(JOIN, low) for low, high in pairs if high == low + 1]
     # Three and more marks at one place make several pairs, but one move.
@@ -45,18 +51,27 @@ def coming(move):
     return [place - 2, place + 1]
 
 
-def done(pile, move):
-    """Tell the pile behind the move."""
-    need_pile(pile)
-    if not is_move(move) or move not in moves_of(pile):
-        raise NoMove("no move whose marks are in the pile")
-    come = coming(move)
-    if max(come) > LAST_PLACE:
-        raise TooGreat("the move would bring a mark above place 99")
+def fits(move):
+    """Tell whether the move brings no mark above the last place."""
+    return max(coming(move)) <= LAST_PLACE
+
+
+def behind(pile, move):
+    """Tell the pile behind a move that surely can be made."""
     marks = list(pile)
     for place in going(move):
         marks.remove(place)
-    return tuple(sorted(marks + come))
+    return tuple(sorted(marks + coming(move)))
+
+
+def done(pile, move):
+    """Tell the pile behind the move."""
+    need_pile(pile)
+    if not is_move(move) or move not in moves_there(pile):
+        raise NoMove("no move whose marks are in the pile")
+    if not fits(move):
+        raise TooGreat("the move would bring a mark above place 99")
+    return behind(pile, move)
 
 
 def mark_weight(place):

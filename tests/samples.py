@@ -1,8 +1,12 @@
 """Things that several tests hand in, and what they ask of the answers."""
 
+from collections import Counter
 from itertools import combinations_with_replacement
 
 GREATEST_WORTH = 573147844013817084101
+GREATEST_NUMBER = 927372692193078999175
+GREATEST_ROW = tuple(range(1, 100, 2))
+MOVES = [("join", place) for place in range(99)] + [("part", place) for place in range(100)]
 
 
 class Prickly:
@@ -88,11 +92,129 @@ def small_piles():
     ]
 
 
+def small_piles_that_fit():
+    return [pile for pile in small_piles() if worth_told(pile) <= GREATEST_NUMBER]
+
+
 def great_piles():
     return [
         (0,) * 240, (1,) * 240, (2,) * 240, (99,) * 240, (0,) * 80 + (1,) * 80 + (50,) * 80,
         tuple(range(100)), tuple(sorted(list(range(100)) * 2)), tuple(sorted(list(range(80)) * 3)),
         (0,) + (99,) * 239, (0, 1, 2, 98, 99, 99),
+    ]
+
+
+def marks_of(move):
+    """What goes and what comes, as the document tells it."""
+    kind, place = move
+    if kind == "join":
+        return [place, place + 1], [place + 2]
+    if place == 0:
+        return [0, 0], [1]
+    if place == 1:
+        return [1, 1], [2, 0]
+    return [place, place], [place + 1, place - 2]
+
+
+def moves_there(pile):
+    many = Counter(pile)
+    joins = [("join", place) for place in range(99) if many[place] and many[place + 1]]
+    return joins + [("part", place) for place in range(100) if many[place] > 1]
+
+
+def pile_behind(pile, move):
+    go, come = marks_of(move)
+    many = Counter(pile)
+    many.subtract(go)
+    many.update(come)
+    return tuple(sorted(many.elements()))
+
+
+def no_moves():
+    return [
+        None, True, 0, "join", "part", "", b"join", [], ["join", 0], ["part", 1], {}, {"join": 0}, {"join", 0},
+        (), ("join",), ("part",), ("join", 0, 0), ("part", 1, 1), ("join", 0, 1, 2), (0, "join"), (0, 1),
+        ("", 0), ("Join", 0), ("JOIN", 0), ("join ", 0), ("open", 1), ("parts", 1), (b"join", 0), (None, 0),
+        (("join",), 0), (["join"], 0), ("join", None), ("join", "0"), ("part", "1"), ("join", [0]), ("join", (0,)),
+        ("join", True), ("join", False), ("part", True), ("part", False),
+        ("join", -1), ("part", -1), ("join", -2), ("part", -100), ("join", 99), ("join", 100), ("part", 100),
+        ("join", 10 ** 40), ("part", -10 ** 40), object(), Prickly(), Agreeing(),
+        (Prickly(), 0), ("join", Prickly()), (Agreeing(), 0), ("part", Agreeing()),
+        (Prickly(),) * 2, (Agreeing(),) * 2,
+    ]
+
+
+def moves_to_make(pile):
+    """The moves that are there and bring no mark above place 99."""
+    return [move for move in moves_there(pile) if max(marks_of(move)[1]) <= 99]
+
+
+def row_told(number):
+    """The row of a number, by taking off the greatest mark again and again."""
+    worths = [1, 2]
+    while len(worths) < 100:
+        worths.append(worths[-1] + worths[-2])
+    row = []
+    while number:
+        place = max(place for place in range(100) if worths[place] <= number)
+        row.insert(0, place)
+        number -= worths[place]
+    return tuple(row)
+
+
+def worth_told(pile):
+    """What a pile is worth, with a mark at each place as much as at the two below."""
+    total, below, here = 0, 1, 1
+    for place in range(100):
+        total += here * pile.count(place)
+        below, here = here, below + here
+    return total
+
+
+def spread_out(row):
+    """Piles of the worth of the row, in each of them more marks opened into the two places below."""
+    piles = []
+    marks = list(row)
+    for many in (1, 1, 10, 40):
+        for turn in range(many):
+            place = max(marks) if turn % 2 == 0 else min(place for place in marks if place > 1)
+            marks.remove(place)
+            marks += [place - 1, place - 2]
+        piles.append(tuple(sorted(marks)))
+    return piles
+
+
+def piles_of_the_greatest_worth():
+    return [GREATEST_ROW, (0, 0) + GREATEST_ROW[1:], (0,) + tuple(range(99))] + spread_out(GREATEST_ROW)
+
+
+def piles_that_fit():
+    """Great piles that are worth less than a mark at place 100, some of them only just."""
+    return piles_of_the_greatest_worth() + [
+        (0,) * 240, (1,) * 240, (2,) * 240, (15,) * 240, (0,) * 80 + (1,) * 80 + (50,) * 80,
+        tuple(sorted(list(range(79)) * 3)), tuple(range(98)), tuple(range(99)), (96,) * 6, (97,) * 4, (98, 98),
+        (97, 98), (0, 97, 98), (0, 98, 98), (0,) * 238 + (98, 98), (0, 0, 1, 2, 99), (50,) * 239 + (99,),
+    ]
+
+
+def piles_too_great():
+    """Piles that are worth as much as a mark at place 100, or more."""
+    return [(0,) + pile for pile in piles_of_the_greatest_worth()] + [
+        (98, 99), (99, 99), (0, 98, 99), (97, 98, 99), (98, 98, 98), (97, 97, 99), (96, 97, 97, 98), (96,) * 7,
+        (0, 0) + GREATEST_ROW, (0,) * 100 + GREATEST_ROW, (0,) * 190 + GREATEST_ROW, (0, 0) + tuple(range(99)),
+        tuple(range(100)), tuple(sorted(list(range(100)) * 2)), tuple(sorted(list(range(95)) * 2)) + (99,) * 50,
+        tuple(range(0, 100, 2)) + (99,), (0,) * 238 + (98, 99), (0,) * 238 + (99, 99), (90,) * 124, (99,) * 240,
+    ]
+
+
+def picks():
+    """Ways to tell a place in a list: the first, the last, the middle one, and some that go up and down."""
+    def leaping(moves):
+        return sum(place * place + len(kind) for kind, place in moves) * 31 // 7 % len(moves)
+
+    return [
+        None, lambda moves: 0, lambda moves: len(moves) - 1, lambda moves: len(moves) // 2,
+        lambda moves: min(1, len(moves) - 1), lambda moves: max(0, len(moves) - 2), leaping,
     ]
 
 

@@ -3,7 +3,7 @@
 import inspect
 import unittest
 
-from loosemarks import moves, piles
+from loosemarks import checker, moves, numbers, piles, settling
 
 INTERFACE = {
     piles: {
@@ -18,6 +18,19 @@ INTERFACE = {
         "moves_of": ["pile"],
         "done": ["pile", "move"],
         "weight": ["pile"],
+    },
+    settling: {
+        "paper_of": ["pile", "pick=None"],
+        "settled": ["pile", "pick=None"],
+    },
+    checker: {
+        "is_right": ["pile", "paper", "row"],
+        "fails_at": ["pile", "paper"],
+    },
+    numbers: {
+        "row_of": ["number"],
+        "number_of": ["row"],
+        "compare": ["one", "other"],
     },
 }
 
@@ -35,7 +48,7 @@ class TestInterface(unittest.TestCase):
             for name, arguments in functions.items():
                 with self.subTest(name):
                     parameters = inspect.signature(getattr(module, name)).parameters
-                    self.assertEqual(list(parameters), arguments)
+                    self.assertEqual([str(parameter) for parameter in parameters.values()], arguments)
 
 
 if __name__ == "__main__":

@@ -1,55 +1,12 @@
 """Points [3], [4] and [5]: the moves, those that bring too great a mark, and the weight."""
 
 import unittest
-from collections import Counter
 
 from loosemarks.errors import NoMove, NoPile, TooGreat
 from loosemarks.moves import done, moves_of, weight
 from loosemarks.piles import is_pile, is_row, worth
 from tests import samples
-from tests.samples import check_refused
-
-MOVES = [("join", place) for place in range(99)] + [("part", place) for place in range(100)]
-
-
-def marks_of(move):
-    """What goes and what comes, as the document tells it."""
-    kind, place = move
-    if kind == "join":
-        return [place, place + 1], [place + 2]
-    if place == 0:
-        return [0, 0], [1]
-    if place == 1:
-        return [1, 1], [2, 0]
-    return [place, place], [place + 1, place - 2]
-
-
-def moves_there(pile):
-    many = Counter(pile)
-    return [move for move in MOVES if not Counter(marks_of(move)[0]) - many]
-
-
-def pile_behind(pile, move):
-    go, come = marks_of(move)
-    many = Counter(pile)
-    many.subtract(go)
-    many.update(come)
-    return tuple(sorted(many.elements()))
-
-
-def no_moves():
-    return [
-        None, True, 0, "join", "part", "", b"join", [], ["join", 0], ["part", 1], {}, {"join": 0}, {"join", 0},
-        (), ("join",), ("part",), ("join", 0, 0), ("part", 1, 1), ("join", 0, 1, 2), (0, "join"), (0, 1),
-        ("", 0), ("Join", 0), ("JOIN", 0), ("join ", 0), ("open", 1), ("parts", 1), (b"join", 0), (None, 0),
-        (("join",), 0), (["join"], 0), ("join", None), ("join", "0"), ("part", "1"), ("join", [0]), ("join", (0,)),
-        ("join", True), ("join", False), ("part", True), ("part", False),
-        ("join", -1), ("part", -1), ("join", -2), ("part", -100), ("join", 99), ("join", 100), ("part", 100),
-        ("join", 10 ** 40), ("part", -10 ** 40), object(), samples.Prickly(), samples.Agreeing(),
-        (samples.Prickly(), 0), ("join", samples.Prickly()), (samples.Agreeing(), 0), ("part", samples.Agreeing()),
-        (samples.Prickly(),) * 2, (samples.Agreeing(),) * 2,
-    ]
-
+from tests.samples import MOVES, check_refused, marks_of, moves_there, no_moves, pile_behind
 
 # A pile in which each of the moves could be made.
 FULL = tuple(sorted(list(range(100)) * 2))
