@@ -56,12 +56,17 @@ def fits(move):
     return max(coming(move)) <= LAST_PLACE
 
 
+def exchanged(pile, gone, come):
+    """Tell the pile with the marks at the places of the one list gone, and those of the other come."""
+    marks = list(pile)
+    for place in gone:
+        marks.remove(place)
+    return tuple(sorted(marks + come))
+
+
 def behind(pile, move):
     """Tell the pile behind a move that surely can be made."""
-    marks = list(pile)
-    for place in going(move):
-        marks.remove(place)
-    return tuple(sorted(marks + coming(move)))
+    return exchanged(pile, going(move), coming(move))
 
 
 def done(pile, move):

@@ -1,7 +1,7 @@
 """Things that several tests hand in, and what they ask of the answers."""
 
 from collections import Counter
-from itertools import combinations_with_replacement
+from itertools import combinations, combinations_with_replacement
 
 GREATEST_WORTH = 573147844013817084101
 GREATEST_NUMBER = 927372692193078999175
@@ -216,6 +216,45 @@ def picks():
         None, lambda moves: 0, lambda moves: len(moves) - 1, lambda moves: len(moves) // 2,
         lambda moves: min(1, len(moves) - 1), lambda moves: max(0, len(moves) - 2), leaping,
     ]
+
+
+def low_rows():
+    """Each row of places below 12, by rising worth: so those of 0, 1, 2 and so on."""
+    found = [
+        row
+        for many in range(7)
+        for row in combinations(range(12), many)
+        if all(high - low > 1 for low, high in zip(row, row[1:]))
+    ]
+    return sorted(found, key=worth_told)
+
+
+def many_numbers():
+    """Numbers of each size: those around what a mark is worth, and some spread between."""
+    found = set(range(300)) | {GREATEST_NUMBER - less for less in range(300)}
+    for place in range(100):
+        found.update(worth_told((place,)) + more for more in (-2, -1, 0, 1, 2))
+    found.update(GREATEST_NUMBER * part // 997 for part in range(998))
+    return sorted(number for number in found if 0 <= number <= GREATEST_NUMBER)
+
+
+class Watched:
+    """A pick that checks what it is handed, goes along the pile, and keeps the moves it chose."""
+
+    def __init__(self, case, pile, choose):
+        self.case = case
+        self.pile = pile
+        self.choose = choose
+        self.chosen = []
+
+    def __call__(self, moves):
+        self.case.assertIs(type(moves), list)
+        self.case.assertNotEqual(moves, [])
+        self.case.assertEqual(moves, moves_to_make(self.pile))
+        place = self.choose(moves)
+        self.chosen.append(moves[place])
+        self.pile = pile_behind(self.pile, moves[place])
+        return place
 
 
 def check_refused(case, wanted, function, *given):

@@ -3,7 +3,7 @@
 import inspect
 import unittest
 
-from loosemarks import checker, moves, numbers, piles, settling
+from loosemarks import checker, moves, numbers, piles, settling, sums, texts, walking
 
 INTERFACE = {
     piles: {
@@ -31,6 +31,23 @@ INTERFACE = {
         "row_of": ["number"],
         "number_of": ["row"],
         "compare": ["one", "other"],
+    },
+    sums: {
+        "plus": ["one", "other", "pick=None"],
+        "minus": ["one", "other"],
+        "times": ["one", "other"],
+        "moved": ["row", "places=1"],
+        "opened": ["pile", "k"],
+    },
+    walking: {
+        "next_row": ["row"],
+        "last_row": ["row"],
+        "rows_from": ["row", "many"],
+    },
+    texts: {
+        "pile_text": ["pile"],
+        "read_pile": ["text"],
+        "read_row": ["text"],
     },
 }
 

@@ -1,7 +1,6 @@
 """Point [7]: the row of each number, the number of each row, and the order of rows."""
 
 import unittest
-from itertools import combinations
 from unittest import mock
 
 from loosemarks import numbers
@@ -10,29 +9,9 @@ from loosemarks.numbers import compare, number_of, row_of
 from loosemarks.piles import is_row
 from loosemarks.settling import settled
 from tests import samples
-from tests.samples import check_refused, row_told, worth_told
+from tests.samples import check_refused, low_rows, many_numbers, row_told, worth_told
 
 GREATEST = 927372692193078999175
-
-
-def low_rows():
-    """Each row of places below 12, by rising worth: so those of 0, 1, 2 and so on."""
-    found = [
-        row
-        for many in range(7)
-        for row in combinations(range(12), many)
-        if all(high - low > 1 for low, high in zip(row, row[1:]))
-    ]
-    return sorted(found, key=worth_told)
-
-
-def many_numbers():
-    """Numbers of each size: those around what a mark is worth, and some spread between."""
-    found = set(range(300)) | {GREATEST - less for less in range(300)}
-    for place in range(100):
-        found.update(worth_told((place,)) + more for more in (-2, -1, 0, 1, 2))
-    found.update(GREATEST * part // 997 for part in range(998))
-    return sorted(number for number in found if 0 <= number <= GREATEST)
 
 
 def no_numbers():

@@ -6,26 +6,7 @@ from loosemarks.errors import NoPile, TooGreat
 from loosemarks.moves import weight
 from loosemarks.settling import paper_of, settled
 from tests import samples
-from tests.samples import check_refused, moves_to_make, pile_behind, picks, row_told, worth_told
-
-
-class Watched:
-    """A pick that checks what it is handed, goes along the pile, and keeps the moves it chose."""
-
-    def __init__(self, case, pile, choose):
-        self.case = case
-        self.pile = pile
-        self.choose = choose
-        self.chosen = []
-
-    def __call__(self, moves):
-        self.case.assertIs(type(moves), list)
-        self.case.assertNotEqual(moves, [])
-        self.case.assertEqual(moves, moves_to_make(self.pile))
-        place = self.choose(moves)
-        self.chosen.append(moves[place])
-        self.pile = pile_behind(self.pile, moves[place])
-        return place
+from tests.samples import Watched, check_refused, moves_to_make, pile_behind, picks, row_told, worth_told
 
 
 def walked(pile, choose):
