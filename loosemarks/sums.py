@@ -4,7 +4,7 @@ from loosemarks.errors import Below, NoMove, TooGreat
 from loosemarks.moves import JOIN, PART, coming, exchanged, going
 from loosemarks.numbers import compare
 from loosemarks.piles import LAST_PLACE, is_place, need_pile, need_row, pile_of
-from loosemarks.settling import settled
+from loosemarks.settling import laid, settled
 
 
 def need_rows(one, other):
@@ -63,9 +63,9 @@ def times(one, other):
         # A mark is worth as much as those at the two places below it together; so are its products.
         # Above the other row's last mark they might be too great where the answer isn't.
         while reached < place:
-            below, here = here, plus(below, here)
+            below, here = here, laid(here, below)
             reached += 1
-        total = plus(total, here)
+        total = laid(total, here)
     return total
 
 

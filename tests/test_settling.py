@@ -1,12 +1,17 @@
 """Points [6], [4] and [5]: papers, and the rows at which they end."""
 
 import unittest
+from unittest import mock
 
+from loosemarks import settling
+from loosemarks.checker import is_right
 from loosemarks.errors import NoPile, TooGreat
-from loosemarks.moves import weight
+from loosemarks.moves import coming, weight
 from loosemarks.settling import paper_of, settled
 from tests import samples
-from tests.samples import Watched, check_refused, moves_to_make, pile_behind, picks, row_told, worth_told
+from tests.samples import (
+    Watched, check_refused, moves_there, moves_to_make, pile_behind, picks, row_told, worth_told,
+)
 
 
 def walked(pile, choose):
@@ -102,6 +107,8 @@ class TestPaperOf(unittest.TestCase):
             check_refused(self, TooGreat, settled, pile, unasked)
 
     def test_a_pick_that_says_it_is_false(self):
+        asked = []
+
         class Last:
             def __bool__(self):
                 return False
@@ -110,10 +117,13 @@ class TestPaperOf(unittest.TestCase):
                 return 0
 
             def __call__(self, moves):
+                asked.append(moves)
                 return len(moves) - 1
 
         self.assertEqual(paper_of((0, 0, 1), Last()), [("part", 0), ("part", 1)])
+        self.assertEqual(len(asked), 2)
         self.assertEqual(settled((0, 0, 1), Last()), (0, 2))
+        self.assertEqual(len(asked), 4)
 
     def test_a_very_long_paper(self):
         pile = (88,) * 240
@@ -200,6 +210,51 @@ class TestSettled(unittest.TestCase):
                 self.assertEqual(pick.chosen, walked(pile, choose)[0])
 
 
+class TestSettledWithoutPick(unittest.TestCase):
+    def check_moves(self, pile):
+        """Check that each move that is made can be made where it is, and tell the moves and the pile behind them."""
+        moves = []
+        reached = pile
+
+        def watched(move):
+            nonlocal reached
+            self.assertIn(move, moves_there(reached))
+            moves.append(move)
+            if move in moves_to_make(reached):
+                reached = pile_behind(reached, move)
+            return coming(move)
+
+        with mock.patch.object(settling, "coming", side_effect=watched):
+            if worth_told(pile) > samples.GREATEST_NUMBER:
+                check_refused(self, TooGreat, settled, pile)
+            else:
+                self.assertEqual(settled(pile), reached)
+        return moves, reached
+
+    def test_it_is_made_by_moves_alone(self):
+        for pile in samples.small_piles_that_fit() + samples.piles_that_fit() + samples.rows():
+            moves, reached = self.check_moves(pile)
+            self.assertEqual(moves_to_make(reached), [])
+            self.assertEqual(reached, row_told(worth_told(pile)))
+            self.assertLessEqual(len(moves), weight(pile))
+
+    def test_too_great_comes_of_a_move_that_cannot_be_made(self):
+        for pile in samples.piles_too_great():
+            moves, reached = self.check_moves(pile)
+            self.assertNotIn(moves[-1], moves_to_make(reached))
+            self.assertLessEqual(len(moves), weight(pile))
+
+    def test_the_row_at_which_the_paper_ends(self):
+        for pile in samples.small_piles_that_fit() + samples.piles_that_fit():
+            self.assertIs(is_right(pile, paper_of(pile), settled(pile)), True)
+            self.assertEqual(settled(pile, None), settled(pile))
+
+    def test_piles_of_each_length(self):
+        for many in range(241):
+            pile = tuple(sorted(turn * turn * 31 // 7 % 88 for turn in range(many)))
+            self.assertEqual(settled(pile), row_told(worth_told(pile)))
+
+
 class TestTooGreat(unittest.TestCase):
     def test_sooner_or_later(self):
         for pile in samples.piles_too_great():
@@ -225,6 +280,7 @@ class TestTooGreat(unittest.TestCase):
         for pile in samples.small_piles():
             if worth_told(pile) > samples.GREATEST_NUMBER:
                 check_refused(self, TooGreat, paper_of, pile)
+                check_refused(self, TooGreat, settled, pile)
                 check_refused(self, TooGreat, settled, pile, lambda moves: len(moves) - 1)
 
     def test_pick_is_handed_only_moves_that_can_be_made(self):

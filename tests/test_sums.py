@@ -4,10 +4,11 @@ import unittest
 from math import isqrt
 from unittest import mock
 
-from loosemarks import numbers, piles
+from loosemarks import numbers, piles, sums
 from loosemarks.errors import Below, NoMove, NoPile, NoRow, TooGreat
 from loosemarks.moves import done
 from loosemarks.piles import is_row
+from loosemarks.settling import laid
 from loosemarks.sums import minus, moved, opened, plus, times
 from tests import samples
 from tests.samples import (
@@ -17,6 +18,12 @@ from tests.samples import (
 
 # Rows to try with one another: few marks and many, at the lowest places and at the highest.
 ROWS = samples.rows() + [row_told(number) for number in (4, 11, 12, 88, 10 ** 10, 10 ** 20 + 7, GREATEST_NUMBER - 1)]
+
+# Products of which one or the other way round takes many moves.
+LONG_PRODUCTS = [
+    (12345678901, 75113000000), (30000000000, 30000000000), (9273726921930789, 100000), (463686346096539499587, 2),
+    (299, 3100000000000000000), (54018520, 17167000000000), (GREATEST_NUMBER, 1),
+]
 
 
 def no_rows():
@@ -229,7 +236,7 @@ class TestTimes(SumsCase):
         self.assertEqual(times((), ()), ())
 
     def test_numbers_of_each_size(self):
-        few = [number for number in many_numbers() if number < 10 ** 12][::40]
+        few = [number for number in many_numbers() if number < 10 ** 12][::10]
         for one in few:
             for other in few:
                 if one * other <= GREATEST_NUMBER:
@@ -246,6 +253,11 @@ class TestTimes(SumsCase):
             if other < GREATEST_NUMBER:
                 check_refused(self, TooGreat, times, row_told(one), row_told(other + 1))
                 check_refused(self, TooGreat, times, row_told(other + 1), row_told(one))
+
+    def test_products_of_many_moves(self):
+        for one, other in LONG_PRODUCTS:
+            self.check_row(times(row_told(one), row_told(other)), one * other)
+            self.check_row(times(row_told(other), row_told(one)), one * other)
 
     def test_the_greatest_row_as_a_product(self):
         for one in (1, 5, 25):
@@ -423,6 +435,20 @@ class TestByMovesAlone(SumsCase):
                         self.check_row(times(one, other), worth_told(one) * worth_told(other))
                 self.assertEqual(moved((0, 2, 5), 3), (3, 5, 8))
                 self.assertEqual(opened((5,), 5), (3, 4))
+
+    def test_a_product_is_made_of_sums_alone(self):
+        for one, other in LONG_PRODUCTS:
+            row = row_told(one)
+            known = [(), row]
+
+            def watched(here, more):
+                self.assertIn(here, known)
+                self.assertIn(more, known)
+                known.append(laid(here, more))
+                return known[-1]
+
+            with mock.patch.object(sums, "laid", side_effect=watched):
+                self.assertIn(times(row, row_told(other)), known)
 
 
 class TestNothingIsChanged(unittest.TestCase):
